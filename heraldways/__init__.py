@@ -1,0 +1,1 @@
+"""Heraldways: houses that tell one another roads by letters."""

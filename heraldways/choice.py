@@ -1,6 +1,6 @@
 """Which road is the better one, what a house chooses, and which tables are settled."""
 
-from heraldways.guild import SEAT
+from heraldways.guild import SEAT, require_within
 
 
 def better(guild, one, other):
@@ -9,12 +9,12 @@ def better(guild, one, other):
 
 def chosen(guild, house, told):
     guild.require_houses([house])
-    require_told_houses(guild, told)
+    require_told_houses(told, guild.size())
     return choice_among(guild, house, told)
 
 
 def first_unsettled(guild, table):
-    require_told_houses(guild, table)
+    require_told_houses(table, guild.size())
     for house in range(guild.size()):
         told = [table[neighbour] for neighbour in guild.neighbours(house)]
         if choice_among(guild, house, told) != table[house]:
@@ -27,22 +27,28 @@ def standing(guild, road):
     return (-guild.rank_of(road), len(road), road)
 
 
-def require_told_houses(guild, told):
+def require_told_houses(told, count):
     # All are looked at ahead of the choice: whether one is refused must not hang on which ones are passed over.
     for road in told:
         if road is not None:
-            guild.require_houses(road)
+            require_within(road, count)
 
 
 def choice_among(guild, house, told):
+    standings = [standing(guild, [house] + road) for road in told if may_take(guild, house, road)]
+    return best_road(house, standings)
+
+
+def may_take(guild, house, road):
+    if road is None or house == SEAT or house in road:
+        return False
+    return not guild.shuns_one_of(house, road)
+
+
+def best_road(house, standings):
     if house == SEAT:
         return [SEAT]
-    barred = guild.shunned(house) + [house]
-    roads = [[house] + road for road in told if may_take(road, barred)]
-    return min(roads, key=lambda road: standing(guild, road), default=None)
-
-
-def may_take(road, barred):
-    if road is None:
-        return False
-    return len(set(road) & set(barred)) == 0
+    best = min(standings, default=None)
+    if best is None:
+        return None
+    return best[2]

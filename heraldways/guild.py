@@ -6,6 +6,12 @@ SEAT = 0
 MOST_HOUSES = 60
 
 
+def require_within(houses, count):
+    # Asked of every road that is weighed: the least and the greatest tell it faster than each by itself.
+    if min(houses, default=SEAT) < 0 or max(houses, default=SEAT) >= count:
+        raise NoHouse("no house of the guild")
+
+
 class Guild:
 
     def __init__(self, size):
@@ -78,10 +84,19 @@ class Guild:
     def houses_paired(self, pairs, a):
         return [b for b in range(self.house_count) if (a, b) in pairs]
 
+    def twin(self):
+        other = Guild(self.house_count)
+        other.ways.update(self.ways)
+        other.likings.update(self.likings)
+        other.shuns.update(self.shuns)
+        other.wish_ranks.update(self.wish_ranks)
+        return other
+
+    def shuns_one_of(self, a, houses):
+        return any([(a, b) in self.shuns for b in houses])
+
     def require_houses(self, houses):
-        # Asked of every road that is weighed: the least and the greatest tell it faster than each by itself.
-        if min(houses, default=SEAT) < 0 or max(houses, default=SEAT) >= self.house_count:
-            raise NoHouse("no house of the guild")
+        require_within(houses, self.house_count)
 
     def require_two_houses(self, a, b):
         self.require_houses([a, b])

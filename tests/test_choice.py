@@ -7,61 +7,8 @@ import unittest
 from heraldways.choice import better, chosen, first_unsettled
 from heraldways.errors import NoHouse
 from heraldways.guild import Guild
-
-HUGE = 10 ** 5000
-LONG_RANK = 10 ** 60 - 1
-
-
-def roads_of(size, house):
-    """All roads of a house in a guild of so many houses."""
-    if house == 0:
-        return [[0]]
-    others = [other for other in range(1, size) if other != house]
-    return [[house, *between, 0]
-            for count in range(len(others) + 1)
-            for between in itertools.permutations(others, count)]
-
-
-def guild_with_ways(size, ways):
-    guild = Guild(size)
-    for a, b in ways:
-        guild.lay_way(a, b)
-    return guild
-
-
-def plainly_better(guild, one, other):
-    """Point 5, word by word."""
-    if guild.rank_of(one) != guild.rank_of(other):
-        return guild.rank_of(one) > guild.rank_of(other)
-    if len(one) != len(other):
-        return len(one) < len(other)
-    for a, b in zip(one, other):
-        if a != b:
-            return a < b
-    raise AssertionError("the same road twice")
-
-
-def plainly_chosen(guild, house, told):
-    """Point 6, word by word."""
-    if house == 0:
-        return [0]
-    taken = []
-    for road in told:
-        if road is not None and house not in road and not any(far in road for far in guild.shunned(house)):
-            taken.append([house] + road)
-    for road in taken:
-        if all(other == road or plainly_better(guild, road, other) for other in taken):
-            return road
-    return None
-
-
-def plainly_unsettled(guild, table):
-    """Point 7, word by word."""
-    for house in range(guild.size()):
-        told = [table[near] for near in range(guild.size()) if guild.has_way(house, near)]
-        if table[house] != plainly_chosen(guild, house, told):
-            return house
-    return None
+from tests.helpers import (HUGE, LONG_RANK, guild_with_ways, plainly_better, plainly_chosen, plainly_unsettled,
+                           restless_guild, roads_of)
 
 
 def settled(guild):
@@ -402,11 +349,7 @@ class FirstUnsettled(unittest.TestCase):
         self.assertEqual(settled(guild), [[[0], [1, 0], [2, 1, 0]], [[0], [1, 2, 0], [2, 0]]])
 
     def test_three_houses_for_which_no_table_is_settled(self):
-        guild = guild_with_ways(4, [(0, 1), (0, 2), (0, 3), (1, 2), (2, 3), (3, 1)])
-        for road in [[1, 2, 0], [2, 3, 0], [3, 1, 0]]:
-            guild.wish(road, 2)
-            guild.wish([road[0], 0], 1)
-        self.assertEqual(settled(guild), [])
+        self.assertEqual(settled(restless_guild()), [])
 
     def test_against_the_words_for_all_tables_of_a_small_guild(self):
         guild = guild_with_ways(4, [(0, 1), (0, 2), (1, 2), (2, 3), (1, 3)])

@@ -14,6 +14,8 @@ ArithmeticError OverflowError RuntimeError NotImplementedError StopIteration Att
 METHODS = set("""append clear copy count endswith extend find get index insert isalnum isalpha isdigit islower isspace
 isupper items join keys ljust lower lstrip partition pop remove replace reverse rfind rjust rpartition rsplit rstrip
 setdefault split splitlines startswith strip update upper values zfill bit_length""".split())
+PYTHONS_OWN = set().union(*[dir(kind) for kind in (str, int, list, tuple, dict, set, frozenset, bytes, bool)])
+OWN_VALUES = set("count index title find get join lower upper split strip copy add".split())
 TWO_UNDERSCORES = set("__init__ __eq__ __repr__ __str__ __len__".split())
 WORDS_OUT = re.compile(r"\b(type|typing|typing_extensions|enum|Enum|IntEnum|StrEnum|Flag|IntFlag|Generic|Protocol|ABC"
                        r"|ABCMeta|namedtuple|NamedTuple|TypedDict|TYPE_CHECKING|abstractmethod)\b"
@@ -287,6 +289,12 @@ class Package(unittest.TestCase):
         methods, values, called = methods_and_values([ast.parse(text) for text in package_texts().values()])
         self.assertEqual(methods & values, set())
         self.assertEqual(called - methods - METHODS, set())
+
+    def test_own_methods_and_values_are_not_called_like_those_of_python_s_own_values(self):
+        """L26."""
+        methods, values, called = methods_and_values([ast.parse(text) for text in package_texts().values()])
+        self.assertEqual(methods & PYTHONS_OWN - METHODS - TWO_UNDERSCORES - {"add", "discard"}, set())
+        self.assertEqual(values & (PYTHONS_OWN | {"args"}) - OWN_VALUES, set())
 
     def test_names_are_drawn_from_the_file_that_defines_them(self):
         texts = package_texts()

@@ -5,47 +5,15 @@ import unittest
 
 from heraldways.errors import NoHouse, NoRoad, NoWay, WayThere
 from heraldways.guild import Guild
-
-HUGE = 10 ** 5000
-LONG_RANK = 10 ** 60 - 1
+from tests.helpers import HUGE, LONG_RANK, RefusalCase, all_of, busy_guild, not_houses
 
 
-def all_of(guild):
-    """All that a guild tells of itself."""
-    houses = range(guild.size())
-    pairs = list(itertools.product(houses, houses))
-    return {
-        "size": guild.size(),
-        "neighbours": [guild.neighbours(a) for a in houses],
-        "ways": [guild.has_way(a, b) for a, b in pairs],
-        "likings": [guild.liking(a, b) for a, b in pairs],
-        "shunned": [guild.shunned(a) for a in houses],
-        "wishes": guild.wishes(),
-    }
-
-
-def busy_guild():
-    guild = Guild(5)
-    for a, b in [(0, 1), (3, 1), (2, 4)]:
-        guild.lay_way(a, b)
-    guild.like(1, 3, 7)
-    guild.shun(2, 4)
-    guild.wish([3, 1, 0], -2)
-    return guild
-
-
-def not_houses(size):
-    return [-1, -size, size, size + 1, 60, HUGE, -HUGE]
-
-
-class GuildCase(unittest.TestCase):
+class GuildCase(RefusalCase):
 
     def refused(self, guild, error, call, *arguments):
         """The call is refused with this very error, and changes nothing."""
         before = all_of(guild)
-        with self.assertRaises(error) as caught:
-            call(*arguments)
-        self.assertIs(type(caught.exception), error)
+        self.refused_with(error, call, *arguments)
         self.assertEqual(all_of(guild), before)
 
 
@@ -57,9 +25,7 @@ class Sizes(GuildCase):
 
     def test_other_sizes_are_refused(self):
         for size in [0, 61, 62, 100, -1, -5, -60, HUGE, -HUGE]:
-            with self.assertRaises(NoHouse) as caught:
-                Guild(size)
-            self.assertIs(type(caught.exception), NoHouse)
+            self.refused_with(NoHouse, Guild, size)
 
     def test_at_first_there_is_nothing(self):
         for size in [1, 4, 60]:
